@@ -1,0 +1,1 @@
+"""Which insides of a class can be reached from outside, and the fewest copies that shut it."""

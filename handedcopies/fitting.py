@@ -127,7 +127,7 @@ def term_shape(scope, term):
     if isinstance(term, Copy):
         return copy_shape(scope, term)
     if isinstance(term, New):
-        return Shape(term.text)
+        return term.shape
     if isinstance(term, Ask):
         return ask_shape(scope, term)
     assert isinstance(term, SuperCall)

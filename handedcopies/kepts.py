@@ -117,6 +117,10 @@ class Kept:
         """The classes with the definitions of a method, in their order."""
         return [definition.owner for definition in self._definitions[method]]
 
+    def definitions_of(self, method):
+        """The definitions of a method, in their order, with their rows."""
+        return list(self._definitions[method])
+
     def face(self, method):
         """The mark of a method, the kinds of its parameters, and what it returns."""
         return self._faces[method]

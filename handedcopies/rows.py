@@ -3,7 +3,7 @@
 Each function `read_..` takes a whole string and returns what it says, or None if it does not have the form.
 """
 
-from handedcopies.shapes import is_shape
+from handedcopies.shapes import Shape, is_shape
 from handedcopies.words import is_word, parts_of
 
 MOST_STEPS = 3
@@ -30,10 +30,10 @@ class Copy:
 
 
 class New:
-    """A new value of a shape."""
+    """A new value of a Shape."""
 
-    def __init__(self, text):
-        self.text = text
+    def __init__(self, shape):
+        self.shape = shape
 
 
 class Ask:
@@ -123,7 +123,7 @@ def copied_part(text):
 def read_simple(text):
     """A path, a copy of a path, or a new value."""
     if text.startswith("new "):
-        return New(text[4:]) if is_shape(text[4:]) else None
+        return New(Shape(text[4:])) if is_shape(text[4:]) else None
     if text.startswith("copy("):
         inside, floor_count = copied_part(text)
         path = read_path(inside)

@@ -10,7 +10,7 @@ FILES = {path.stem: path for path in sorted(PACKAGE.glob("*.py"))}
 TREES = {name: ast.parse(path.read_text(encoding="utf-8")) for name, path in FILES.items()}
 
 BUILTINS = set("""len range enumerate zip min max sum abs sorted reversed int str bool bytes list tuple dict set
-    isinstance ord repr any all divmod pow iter next Exception ValueError TypeError KeyError IndexError LookupError
+    isinstance ord repr any all divmod pow iter next type Exception ValueError TypeError KeyError IndexError LookupError
     RuntimeError NotImplemented super property staticmethod classmethod""".split())
 METHODS = set("""append clear copy count endswith extend find get index insert isalnum isalpha isdigit islower isspace
     isupper items join keys ljust lower lstrip partition pop remove replace reverse rfind rjust rpartition rsplit rstrip
@@ -25,6 +25,11 @@ BARRED_WORDS = ("typing", "Enum", "Generic", "Protocol", "namedtuple", "dataclas
 def nodes(*kinds):
     """All nodes of these kinds, with the name of their file."""
     return [(name, node) for name, tree in TREES.items() for node in ast.walk(tree) if isinstance(node, kinds)]
+
+
+def path_line(name, lineno):
+    """A line of a file."""
+    return FILES[name].read_text(encoding="utf-8").split("\n")[lineno - 1]
 
 
 def bound_names(node):
@@ -98,6 +103,41 @@ class LanguageTests(unittest.TestCase):
             if node.id in vars(builtins):
                 self.assertIn(node.id, BUILTINS, (name, node.lineno))
 
+    def test_type_and_is(self):
+        compared = []
+        for name, node in nodes(ast.Compare):
+            for sign, right in zip(node.ops, node.comparators):
+                if not isinstance(sign, (ast.Is, ast.IsNot)):
+                    continue
+                if isinstance(right, ast.Constant):
+                    self.assertIn(right.value, (None, True, False), (name, node.lineno))
+                else:
+                    self.assertRegex(ast.unparse(node), r"^type\(\w+\) is (not )?int$", (name, node.lineno))
+                    compared.append(node.left.func)
+        for name, node in nodes(ast.Name):
+            if node.id == "type":
+                self.assertIn(node, compared, (name, node.lineno))
+
+    def test_generators_are_iterated_at_once(self):
+        made = {node.name for _, node in nodes(ast.FunctionDef) if any(
+            isinstance(part, (ast.Yield, ast.YieldFrom)) for part in ast.walk(node))}
+        self.assertEqual(made, {"places", "labels_of"})
+        taken = [part.iter for _, part in nodes(ast.For, ast.comprehension)]
+        for name, node in nodes(ast.Call):
+            if ast.unparse(node.func).rpartition(".")[2] in made:
+                self.assertIn(node, taken, (name, node.lineno))
+        for name, node in nodes(ast.Name, ast.arg, ast.Attribute):
+            if isinstance(node, ast.arg) or isinstance(node.ctx, ast.Store):
+                self.assertNotIn(getattr(node, "id", getattr(node, "arg", getattr(node, "attr", None))), made, name)
+
+    def test_reversed_and_sets(self):
+        for name, node in nodes(ast.Call):
+            text = ast.unparse(node)
+            if text.startswith("reversed("):
+                self.assertRegex(text, r"^reversed\((list|tuple|sorted|range)\(")
+            if text.startswith("set("):
+                self.assertRegex(path_line(name, node.lineno), r"(sorted|len)\(set\(")
+
     def test_methods_that_are_called(self):
         own = {node.name for _, node in nodes(ast.FunctionDef)}
         for name, node in nodes(ast.Call):
@@ -110,6 +150,7 @@ class LanguageTests(unittest.TestCase):
         for name, node in nodes(ast.Attribute):
             if isinstance(node.ctx, ast.Store):
                 self.assertNotIn(node.attr, defined, (name, node.lineno))
+                self.assertIsInstance(node.value, ast.Name, (name, node.lineno))
 
     def test_texts(self):
         for path in FILES.values():

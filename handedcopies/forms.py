@@ -51,7 +51,11 @@ class FormReader:
         self.states[place] = "seen" if is_shown else "shut"
         self.leads[place] = place
         self._firsts.append((place, shape.text))
-        return all([self._take(f"{place}[{at}]", item, is_shown) for at, item in enumerate(shape)])
+        for at, item in enumerate(shape):
+            # Behind a wrong item nothing is taken: what names its list again would find nothing of it.
+            if not self._take(f"{place}[{at}]", item, is_shown):
+                return False
+        return True
 
     def _meet_again(self, place, shape, code):
         if not 0 <= code < len(self._firsts):

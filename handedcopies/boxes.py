@@ -7,13 +7,23 @@ HIDDEN = -1
 
 
 class Box:
-    """A list; shape is a text, hand is the caller's number of the list, or None if the caller does not hold it."""
+    """A list; shape is a text, hand is the caller's number of the list, or None if the caller does not hold it.
+
+    In a trial a cell may be None: then the item is what the caller has put there, and source, an object with a method
+    told_item(box, at), tells it when it is needed. In a run no cell is ever None.
+    """
 
     def __init__(self, shape, cells):
         self.shape = shape
         self.cells = cells
         self.hand = None
         self.is_shown = False
+        self.source = None
+
+    def item(self, at):
+        """The item with this index."""
+        cell = self.cells[at]
+        return self.source.told_item(self, at) if cell is None else cell
 
 
 def blank_of(shape):
@@ -27,7 +37,7 @@ def copied(value, floors):
     """A value with copies of the lists on its first floors; a list that stands at two places becomes two."""
     if floors == 0 or not isinstance(value, Box):
         return value
-    return Box(value.shape, [copied(cell, floors - 1) for cell in value.cells])
+    return Box(value.shape, [copied(value.item(at), floors - 1) for at in range(len(value.cells))])
 
 
 def shown_value(value):

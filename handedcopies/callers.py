@@ -44,6 +44,10 @@ class Caller:
             self.hold(cell)
         return hand
 
+    def start_anew(self):
+        """Forgets all hands, as a trial does at each turn; their lists stay held."""
+        self.grips = []
+
     def list_of(self, hand):
         """The list of a hand, or None if a value, of any kind, is not the hand of a list."""
         if type(hand) is not int or not 0 <= hand < len(self.grips):

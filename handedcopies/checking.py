@@ -28,8 +28,13 @@ def is_history(kept, goal, deeds, when):
     return is_met_by_run(run, goal, when)
 
 
-def are_closed(kept, goal, forms, when):
-    """Whether a value, of any kind, is a tuple of worlds that no call leaves and that never meet a goal."""
+def has_common(goals, found):
+    """Whether one of some goals is among those that were found."""
+    return any([goal in found for goal in goals])
+
+
+def are_closed(kept, goals, forms, when):
+    """Whether a value, of any kind, is a tuple of worlds that no call leaves and that never meet one of some goals."""
     if not isinstance(forms, tuple) or not all([is_form(kept, form) for form in forms]):
         return False
     among = {form: True for form in forms}
@@ -38,10 +43,10 @@ def are_closed(kept, goal, forms, when):
     if first_world(kept) not in among:
         return False
     for form in among:
-        if goal in looker.goals_in(form):
+        if has_common(goals, looker.goals_in(form)):
             return False
         for done in walker.steps_from(form):
-            if done.after not in among or goal in looker.goals_of(done):
+            if done.after not in among or has_common(goals, looker.goals_of(done)):
                 return False
     return True
 
@@ -53,4 +58,4 @@ def is_paper(kept, goal, thing, *, when="rest"):
         return False
     if thing[0] == "reached":
         return is_history(kept, goal, thing[1], when)
-    return thing[0] == "never" and are_closed(kept, goal, thing[1], when)
+    return thing[0] == "never" and are_closed(kept, [goal], thing[1], when)

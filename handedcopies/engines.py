@@ -4,7 +4,7 @@ A function of the caller's is a tuple here: the index of its parameter in the me
 many floors of its argument and of its reply are copied.
 """
 
-from handedcopies.boxes import Box, blank_of, copied, shown_cell
+from handedcopies.boxes import blank_of, copied, shown_cell
 from handedcopies.rows import Ask, Copy, New, SuperCall, Wrap, lone_word, uncopied
 from handedcopies.shapes import MOST_DEPTH
 
@@ -141,7 +141,7 @@ class Engine:
     def _value_at(self, frame, path, steps):
         value = self.fields[path.word] if path.of_self else frame.words[path.word]
         for step in steps:
-            value = value.cells[index_at(frame, step)]
+            value = value.item(index_at(frame, step))
         return value
 
     def _simple(self, frame, part):

@@ -54,14 +54,14 @@ def agreed_face(definitions, shapes):
     return face
 
 
-def count_asks(definitions):
-    """How many asks a call has that runs the first of these definitions."""
-    asked = 0
+def asking_rows(definitions):
+    """The rows with an ask that a call does which runs the first of these definitions, as (definition, row)."""
+    found = []
     for definition in definitions:
-        asked += len([row for row in definition.rows if has_ask(row)])
+        found.extend([(definition, row) for row in definition.rows if has_ask(row)])
         if not any([has_super(row) for row in definition.rows]):
-            return asked
-    return asked
+            return found
+    return found
 
 
 def count_labels(face, asked):
@@ -127,7 +127,7 @@ class Kept:
 
     def asks(self, method):
         """How many asks a call of a method has."""
-        return count_asks(self._definitions[method])
+        return len(asking_rows(self._definitions[method]))
 
     def places(self):
         """All places, a list before what is below it."""

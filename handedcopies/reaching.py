@@ -25,16 +25,15 @@ class Answer:
         return len([deed for deed in self.paper[1] if deed[0] == "call"])
 
 
-def first_ways(table, when):
+def first_ways(tour, looker):
     """For each goal that is ever met: the labels of a history with the fewest calls that meets it."""
-    looker = Looker(table.kept, when)
     ways = {}
     # The worlds come by ascending depth, so the first step that meets a goal has the fewest calls before it.
-    for form in table:
-        for done in table.steps_from(form):
+    for form in tour.forms:
+        for done in tour.steps_from(form):
             for goal in looker.goals_of(done):
                 if goal not in ways:
-                    ways[goal] = table.labels_to(form) + [done.label]
+                    ways[goal] = tour.labels_to(form) + [done.label]
     return ways
 
 
@@ -54,7 +53,7 @@ def reach(kept, goal, *, when="rest", most=MOST_WORLDS):
     """The answer for a goal."""
     check_goal(kept, goal, when)
     table = Table(kept, most=most)
-    ways = first_ways(table, when)
+    ways = first_ways(table.tour(), Looker(kept, when))
     if goal in ways:
         return Answer(goal, when, (REACHED, history_to(kept, goal, when, ways[goal])))
     return Answer(goal, when, (NEVER, tuple(table)))
@@ -64,5 +63,5 @@ def all_reached(kept, *, when="rest", most=MOST_WORLDS):
     """The least number of calls for each goal of a kept, None if it is never met."""
     if when not in WHENS:
         raise BadWhen(when)
-    ways = first_ways(Table(kept, most=most), when)
+    ways = first_ways(Table(kept, most=most).tour(), Looker(kept, when))
     return {goal: len(ways[goal]) if goal in ways else None for goal in kept.goals()}

@@ -199,6 +199,14 @@ class Run:
             raise Busy()
         return (self._opened, codes_of(self._engine.fields))
 
+    def inside_values(self):
+        """The values of the fields themselves, lists as boxes."""
+        return dict(self._engine.fields)
+
+    def viewed_boxes(self):
+        """The boxes that the views of the caller show, in the order of the hands."""
+        return [box for kind, box in self._caller.grips if kind == "view"]
+
     @property
     def is_busy(self):
         """Whether a call waits for a reply."""

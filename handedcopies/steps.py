@@ -7,7 +7,7 @@ from handedcopies.boxes import codes_of
 from handedcopies.callers import Caller
 from handedcopies.engines import Engine
 from handedcopies.forms import FormBuilder
-from handedcopies.labels import RETURNED, allows, calls_of, open_behind
+from handedcopies.labels import RETURNED, allows, index_rows, open_behind
 from handedcopies.shapes import Shape
 
 
@@ -37,7 +37,6 @@ class Walker:
 
     def __init__(self, kept):
         self._fields = [(name, Shape(text)) for name, text in kept.fields]
-        self._calls = calls_of(kept)
         self._faces = {method: kept.face(method) for method in kept.methods}
         self._definitions = {method: kept.definitions_of(method) for method in kept.methods}
         self._shapes = {}
@@ -47,9 +46,16 @@ class Walker:
     def steps_from(self, form):
         """The steps of a world by all labels that the marks allow, ascending by label."""
         found = []
-        for method, indexes in self._calls:
-            mark = self._faces[method][0]
-            if allows(mark, form[0]):
+        for method in self._faces:
+            found.extend(self.steps_by(form, method))
+        return found
+
+    def steps_by(self, form, method):
+        """The steps of a world by the labels of a method, ascending, none if its mark forbids it."""
+        found = []
+        mark, kinds, _ = self._faces[method]
+        if allows(mark, form[0]):
+            for indexes in index_rows(kinds):
                 found.extend(self._steps_of(form, method, indexes, mark))
         return found
 

@@ -1,12 +1,13 @@
 """Worlds: labels, steps, tables and plain histories (DOC.md, points 21 to 23)."""
 
 from handedcopies.boxes import HIDDEN, SHOWN
-from handedcopies.errors import BadLabel, BadWorld, Shut, TooMany
+from handedcopies.errors import BadLabel, BadWorld, Shut
 from handedcopies.forms import has_form_kinds, is_form, read_codes
 from handedcopies.goals import Looker, check_goal
 from handedcopies.labels import RETURNED, allows, calls_of, is_label
 from handedcopies.running import Run
 from handedcopies.steps import Walker
+from handedcopies.tours import Tour
 
 MOST_WORLDS = 400
 
@@ -84,50 +85,18 @@ class Table:
 
     def __init__(self, kept, *, most=MOST_WORLDS):
         self.kept = kept
-        self._most = most
-        self._walker = Walker(kept)
-        self._forms = []
-        self._depths = {}
-        self._ways = {}
-        self._steps = {}
-        layer = [first_world(kept)]
-        self._depths[layer[0]] = 0
-        while layer:
-            layer = sorted(layer)
-            self._forms.extend(layer)
-            layer = self._next_layer(layer)
+        self._tour = Tour(Walker(kept), first_world(kept), most)
+        self._forms = self._tour.forms
 
-    def _next_layer(self, layer):
-        """The worlds that are met first behind the worlds of a layer."""
-        found = []
-        for form in layer:
-            self._steps[form] = self._walker.steps_from(form)
-            for done in self._steps[form]:
-                if done.after not in self._depths:
-                    self._depths[done.after] = self._depths[form] + 1
-                    self._ways[done.after] = (form, done.label)
-                    found.append(done.after)
-            if len(self._depths) > self._most:
-                raise TooMany("worlds")
-        return found
-
-    def steps_from(self, form):
-        """The steps of a world of the table by all labels that the marks allow."""
-        return list(self._steps[form])
-
-    def labels_to(self, form):
-        """The labels of a history with the fewest calls that leads to a world of the table."""
-        found = []
-        while form in self._ways:
-            form, label = self._ways[form]
-            found.append(label)
-        return found[::-1]
+    def tour(self):
+        """The tour of the worlds, with the steps between them."""
+        return self._tour
 
     def depth_of(self, form):
         """The number of calls of the histories with the fewest calls that lead to a world."""
         if form not in self:
             raise BadWorld(form)
-        return self._depths[form]
+        return self._tour.depths[form]
 
     def follow(self, *labels):
         """The world behind calls with these labels in a new run."""
@@ -147,7 +116,7 @@ class Table:
 
     def __contains__(self, form):
         # True and 1 are different here, although they are equal in Python.
-        return has_form_kinds(form) and form in self._depths
+        return has_form_kinds(form) and form in self._tour.depths
 
 
 class Player:

@@ -9,7 +9,7 @@ from handedcopies.running import Run
 from handedcopies.worlds import Table, World, first_world, labels_of, meets, step
 from tests.makers import Chooser, made_kept
 from tests.samples import SHELF, STRANGE_VALUES, kept_of, method_text
-from tests.test_worlds import FIRST, LENDER, NO_FORMS, SHELF_WORLDS, met
+from tests.test_worlds import LENDER, NO_FORMS, SHELF_WORLDS, met
 
 GET = ("call", "get", (0,))
 KEEPER = """class A:

@@ -103,6 +103,26 @@ class LanguageTests(unittest.TestCase):
             if node.id in vars(builtins):
                 self.assertIn(node.id, BUILTINS, (name, node.lineno))
 
+    def test_names_in_functions(self):
+        for name, tree in TREES.items():
+            taken = {alias.name for node in tree.body if isinstance(node, ast.ImportFrom) for alias in node.names}
+            taken |= {node.name for node in tree.body if isinstance(node, (ast.ClassDef, ast.FunctionDef))}
+            for function in [node for node in ast.walk(tree) if isinstance(node, (ast.FunctionDef, ast.Lambda))]:
+                for node in ast.walk(function):
+                    if isinstance(node, (ast.Name, ast.arg)):
+                        self.assertEqual([bound for bound in bound_names(node) if bound in taken], [], (name, node.lineno))
+
+    def test_attributes_have_no_names_of_methods_of_builtin_values(self):
+        barred = set("""items keys values pop update append clear extend insert remove reverse setdefault sort args encode
+            decode hex fromhex format""".split())
+        for name, node in nodes(ast.Attribute):
+            if isinstance(node.ctx, ast.Store):
+                self.assertNotIn(node.attr, barred, (name, node.lineno))
+        for name, node in nodes(ast.Name, ast.arg, ast.FunctionDef, ast.Attribute):
+            bound = getattr(node, "id", getattr(node, "arg", getattr(node, "name", getattr(node, "attr", ""))))
+            self.assertNotIn(bound.rstrip("_0123456789"), (
+                "_cold", "_tuplegetter", "_outside", "_record", "_written_out", "_member_names"), (name, node.lineno))
+
     def test_type_and_is(self):
         compared = []
         for name, node in nodes(ast.Compare):

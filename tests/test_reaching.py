@@ -151,7 +151,7 @@ class ReachTests(unittest.TestCase):
             table = Table(kept)
             least = {when: dict.fromkeys(kept.goals()) for when in WHENS}
             for form in table:
-                labels = table.labels_to(form)
+                labels = table.tour().labels_to(form)
                 for label in labels_of(kept):
                     try:
                         deeds = plain_deeds(kept, *labels, label)

@@ -224,7 +224,7 @@ class WorldTests(unittest.TestCase):
             kept = made_kept(seed)
             table = Table(kept)
             for form in table:
-                run = run_by(kept, *table.labels_to(form))
+                run = run_by(kept, *table.tour().labels_to(form))
                 world = World(kept, form)
                 self.assertEqual(run.world(), form)
                 for one in kept.places():
@@ -370,7 +370,7 @@ class MeetsTests(unittest.TestCase):
             goals = kept.goals()
             for form in table:
                 for label in labels_of(kept):
-                    labels = table.labels_to(form)
+                    labels = table.tour().labels_to(form)
                     try:
                         deeds = plain_deeds(kept, *labels, label)
                     except Shut:
@@ -491,7 +491,7 @@ class PlainDeedsTests(unittest.TestCase):
             kept = made_kept(seed)
             table = Table(kept)
             for form in table:
-                labels = table.labels_to(form)
+                labels = table.tour().labels_to(form)
                 run = run_by(kept, *labels)
                 self.assertEqual((run.labels(), run.world(), len(labels)), (labels, form, table.depth_of(form)))
                 self.assertEqual(table.follow(*labels), form)

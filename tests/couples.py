@@ -149,6 +149,7 @@ class Pair:
         self.first = self.chooser.run
         self.second = Run(other)
         self.deeds = []
+        self.equal = []
         self.begun = None
         self.asks = 0
 
@@ -166,6 +167,7 @@ class Pair:
             self.asks += 1
         report = self.first.do(deed)
         self.second.do(deed)
+        self.equal.append(self.are_equal())
         if report[0] == "asks":
             self.chooser.asked = self.chooser.kinds[report[1]][1]
 

@@ -110,11 +110,12 @@ class LanguageTests(unittest.TestCase):
             for function in [node for node in ast.walk(tree) if isinstance(node, (ast.FunctionDef, ast.Lambda))]:
                 for node in ast.walk(function):
                     if isinstance(node, (ast.Name, ast.arg)):
-                        self.assertEqual([bound for bound in bound_names(node) if bound in taken], [], (name, node.lineno))
+                        for bound in bound_names(node):
+                            self.assertNotIn(bound, taken, (name, node.lineno))
 
     def test_attributes_have_no_names_of_methods_of_builtin_values(self):
-        barred = set("""items keys values pop update append clear extend insert remove reverse setdefault sort args encode
-            decode hex fromhex format""".split())
+        barred = set("""items keys values pop update append clear extend insert remove reverse setdefault sort args
+            encode decode hex fromhex format""".split())
         for name, node in nodes(ast.Attribute):
             if isinstance(node.ctx, ast.Store):
                 self.assertNotIn(node.attr, barred, (name, node.lineno))

@@ -62,7 +62,8 @@ class MendTests(unittest.TestCase):
         self.assertEqual([mend[PUT], mend[GET], mend["all", "back", 0], mend["put", "in", 0], mend["all", "out", 0]],
                          [1, 3, 2, 0, 0])
         none = Mend()
-        self.assertEqual((none.pairs, len(none), none.floors, list(none), bool(none), none[GET]), ((), 0, 0, [], False, 0))
+        self.assertEqual((none.pairs, len(none), none.floors, list(none), bool(none), none[GET]),
+                         ((), 0, 0, [], False, 0))
 
     def test_equality(self):
         self.assertEqual(Mend((PUT, 1), (GET, 1)), Mend((GET, 1), (PUT, 1)))
@@ -254,7 +255,8 @@ class MendedRunTests(unittest.TestCase):
     def test_in(self):
         text = "class A:\n    a: [[.], .]\n    def put(p: [[.], .]):\n        self.a = p"
         deeds = (("make", "[[.], .]"), ("call", "put", (0,)), ("put", 1, 0, None))
-        for pairs, top, low in (((), 0, 1), (((("put", "in", 0), 1),), None, 1), (((("put", "in", 0), 2),), None, None)):
+        door = ("put", "in", 0)
+        for pairs, top, low in (((), 0, 1), (((door, 1),), None, 1), (((door, 2),), None, None)):
             plain, run = self.runs(text, *pairs)
             self.assertEqual(run.follow(*deeds), plain.follow(*deeds))
             self.assertEqual((run.hand_at("a"), run.hand_at("a[0]")), (top, low))
@@ -306,7 +308,8 @@ class MendedRunTests(unittest.TestCase):
 
     def test_words_wrapped_twice_copy_the_greater_number(self):
         kept = kept_of(EVERY, "Every")
-        for mend, is_shared in ((Mend(), True), (Mend((("all", "out", 1), 1)), True), (Mend((("all", "out", 1), 2)), False)):
+        door = ("all", "out", 1)
+        for mend, is_shared in ((Mend(), True), (Mend((door, 1)), True), (Mend((door, 2)), False)):
             run = Run(mended(kept, mend))
             run.follow(("make", "[[[.]], .]"), ("make", "[[.]]"), ("call", "all", (0, None, 3)))
             self.assertEqual(run.hands()[5][:2], ("list", "[[.]]"))

@@ -111,7 +111,8 @@ class LeastTests(unittest.TestCase):
         self.check(kept, [(show,)], when="closed")
 
     def test_outside(self):
-        text = "class A:\n    def go(p: [.], f: [.] -> [.]):\n        x = f(new [.])\n        x[0] = new .\n        p[0] = new ."
+        text = "\n".join(["class A:", "    def go(p: [.], f: [.] -> [.]):", "        x = f(new [.])",
+                          "        x[0] = new .", "        p[0] = new ."])
         goods = [((("go", "back", 1), 1), (("go", "in", 0), 1))]
         for when in WHENS:
             self.check(kept_of(text, "A"), goods, when=when)
@@ -186,8 +187,9 @@ class BoundTests(unittest.TestCase):
 
     def test_worlds_under_another_mend(self):
         # Without copies the caller soon holds the whole list; with copies the worlds tell which items are one list.
-        text = "\n".join(["class A:", "    a: [[.], [.], [.]]", "    def one():", "        self.a[1] = self.a[0]",
-                          "        return self.a", "    def two():", "        self.a[2] = self.a[1]", "        return self.a"])
+        text = "\n".join([
+            "class A:", "    a: [[.], [.], [.]]", "    def one():", "        self.a[1] = self.a[0]",
+            "        return self.a", "    def two():", "        self.a[2] = self.a[1]", "        return self.a"])
         kept = kept_of(text, "A")
         sizes = [len(Table(mended(kept, mend))) for mend in every_mend(kept)]
         self.assertEqual((sizes[0], max(sizes)), (2, 4))
@@ -291,7 +293,8 @@ class PaperTests(unittest.TestCase):
         for spoilt in (pairs[::-1], list(pairs), pairs[:1], pairs + pairs[1:], ((GET, 1), (PUT, 2)),
                        ((GET, 1), (PUT, True)), ((GET, 1), (("put", "in", True), 1)), ((GET, 1), (("put", "in", 0), 1)),
                        ((GET, 1), (("zoo", "in", 1), 1)), ((GET, 1), [PUT, 1]), ((GET, 1), (list(PUT), 1)), (GET, 1),
-                       ((GET, 1), (PUT, 0)), ((GET, 1), (PUT, 1), (("zoo", "in", 1), 1)), ((GET, 1), (PUT, 1), (PUT, 1))):
+                       ((GET, 1), (PUT, 0)), ((GET, 1), (PUT, 1), (("zoo", "in", 1), 1)),
+                       ((GET, 1), (PUT, 1), (PUT, 1))):
             self.check(False, ((spoilt, worlds),), bads)
             self.check(False, (self.good, (spoilt, worlds)), bads)
         for spoilt in ((), [FIRST], FIRST, ((0, FIRST[1]),), ((True, FIRST[1]),), ((False, (-1, -3, -1)),),

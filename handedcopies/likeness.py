@@ -8,7 +8,6 @@ from handedcopies.mends import check_doors, free_name, mended
 from handedcopies.outcomes import outcomes_from
 from handedcopies.parting import Replay
 from handedcopies.running import Run
-from handedcopies.texts import MOST_CLASSES
 from handedcopies.sides import Couple
 
 ALIKE = "alike"
@@ -97,7 +96,7 @@ def compare(one, other, *, most=MOST_JOINTS):
 
 def do_part(one, other, deeds):
     """Whether a value, of any kind, is a history that parts two kepts."""
-    if not isinstance(deeds, tuple) or len(deeds) == 0:
+    if not isinstance(deeds, tuple):
         return False
     first, second = Run(one), Run(other)
     for deed in deeds:
@@ -132,27 +131,19 @@ def is_likeness(one, other, thing):
     return thing[0] == ALIKE and are_closed_joints(one, other, thing[1])
 
 
-def check_mends(kept, mends):
-    """Raises an error if the mended kepts cannot be made."""
+def like_groups(kept, *mends, most=MOST_JOINTS):
+    """The indexes of the mends, those in one list whose mended kepts are alike."""
     if len(mends) > MOST_COMPARED:
         raise TooMany("mends")
     for mend in mends:
         check_doors(kept, mend)
-    if mends and len(kept.library) == MOST_CLASSES:
-        raise TooMany("classes")
-
-
-def like_groups(kept, *mends, most=MOST_JOINTS):
-    """The indexes of the mends, those in one list whose mended kepts are alike."""
-    check_mends(kept, mends)
     name = free_name(kept.library)
     kepts = [mended(kept, mend, name=name) for mend in mends]
-    pairs = [(at, behind) for at in range(len(kepts)) for behind in range(at + 1, len(kepts))]
-    for at, behind in pairs:
-        check_pair(kepts[at], kepts[behind])
+    # Trials of any two of them have as many lists, so the first two tell at once if these are too many.
     alike = {}
-    for at, behind in pairs:
-        alike[(at, behind)] = bool(compare(kepts[at], kepts[behind], most=most))
+    for at, one in enumerate(kepts):
+        for behind in range(at + 1, len(kepts)):
+            alike[(at, behind)] = bool(compare(one, kepts[behind], most=most))
     groups = []
     for at in range(len(kepts)):
         found = [group for group in groups if alike[(group[0], at)]]

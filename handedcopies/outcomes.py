@@ -42,16 +42,16 @@ def try_all(couple, reader, is_open, outcomes):
 
 def note_trial(trial, outcomes, taken, mark, is_open):
     """Notes what one trial leads to; the first outcome is that of the call that returns, then they go by ask."""
-    done = len(trial.looks)
+    returned, raised = outcomes[0], outcomes[1:]
     if trial.is_parted:
-        # A call that is raised at an ask before the last turn does not come as far as to be parted.
-        for outcome in outcomes[:1] + outcomes[done + 1:]:
+        # A call that is raised at an ask that was calm does not come as far as to be parted.
+        for outcome in [returned] + raised[len(trial.looks):]:
             if outcome.parted is None:
                 outcome.parted = taken
     else:
-        note_lead(outcomes[0], trial.looks[-1], taken, open_behind(mark, is_open, True))
-        done -= 1
-    for outcome, look in zip(outcomes[1:], trial.looks[:done]):
+        note_lead(returned, trial.looks[-1], taken, open_behind(mark, is_open, True))
+    # The looks come ask by ask; a call that returned has one more, at its end.
+    for outcome, look in zip(raised, trial.looks):
         note_lead(outcome, look, taken, open_behind(mark, is_open, False))
 
 

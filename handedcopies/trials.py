@@ -204,12 +204,13 @@ class Trial:
         """Whether a list that the caller held at the turn has equal items on both sides."""
         cells, other_cells = [side.boxes[number].cells for side in self._sides]
         for at, (cell, other_cell) in enumerate(zip(cells, other_cells)):
-            # What no side has set is the same on both, whatever the caller has put there.
-            is_left = cell is None and other_cell is None
-            if not is_left and self._shown(number, at, cell) != self._shown(number, at, other_cell):
+            if self._shown(number, at, cell) != self._shown(number, at, other_cell):
                 return False
         return True
 
     def _shown(self, number, at, cell):
-        """What stands in a list that was held at the turn; None for a new list or value that no row needed."""
+        """What stands in a list that was held at the turn; None for a new list or value that no row needed.
+
+        What no side has set is the same on both, whatever the caller has put there.
+        """
         return self.turns[-1].picked.get((number, at)) if cell is None else shown_cell(cell)

@@ -12,17 +12,10 @@ from handedcopies.shapes import Shape
 from handedcopies.shutting import fewest_mend, is_least, least_mends, least_paper
 from handedcopies.worlds import Table, first_world, labels_of, step
 from tests.samples import SHELF, kept_of
+from tests.test_joints import VIEWER
+from tests.test_mends import GET, PUT
 
-GET, PUT = ("get", "result", -1), ("put", "in", 1)
 FIRST, ONE, TWO, BOTH = [(False, codes) for codes in ((-1, -1, -1), (-1, -3, -1), (-1, -1, -3), (-1, -3, -3))]
-VIEWER = """class Viewer:
-    one: [.]
-    def look():
-        return view self.one
-    def set(v: .):
-        self.one[0] = v
-    def get():
-        return self.one"""
 
 
 class ExampleTests(unittest.TestCase):
@@ -81,7 +74,7 @@ class ExampleTests(unittest.TestCase):
         self.assertEqual(joint_of(*runs), (False, (-1, -3, -1, 0), (-1, 1, -1, 0), ()))
 
     def test_a_joint_world_with_a_window(self):
-        kept = kept_of(VIEWER, "Viewer")
+        kept = kept_of(VIEWER, "A")
         look, setting = ("call", "look", ()), ("call", "set", (None,))
         for deeds in ((look, setting), (setting, look)):
             runs = Run(kept), Run(kept)
@@ -90,7 +83,7 @@ class ExampleTests(unittest.TestCase):
             self.assertEqual(joint_of(*runs), (False, (-1, 1), (-1, 1), ((0, 1),)))
 
     def test_views_and_a_list_are_three_hands(self):
-        run = Run(kept_of(VIEWER, "Viewer"))
+        run = Run(kept_of(VIEWER, "A"))
         look, get = ("call", "look", ()), ("call", "get", ())
         self.assertEqual(run.follow(look, look, get), [("returns", 0), ("returns", 1), ("returns", 2)])
         self.assertEqual([hand[0] for hand in run.hands()], ["view", "view", "list"])

@@ -404,6 +404,13 @@ class StepTests(unittest.TestCase):
         states = [(False, (-3, -3), (1, 0), ()), (False, (-3, 0), (0, 0), ())]
         self.check(rows, "self.a = q; self.b = p", "p: [.], q: [.]", states, "a: [.]; b: [.]")
 
+    def test_three_lists_passed(self):
+        rows = "self.a = p; self.b = q; self.c = r"
+        states = [(False, codes, lists, ()) for codes, lists in (
+            ((-3, -3, -3), (0, 1, 2)), ((-3, -3, 0), (0, 1, 0)), ((-3, -3, 1), (0, 1, 1)), ((-3, 0, -3), (0, 0, 1)),
+            ((-3, 0, 0), (0, 0, 0)))]
+        self.check(rows, rows, "p: [.], q: [.], r: [.]", states, "a: [.]; b: [.]; c: [.]")
+
     def test_items_that_are_read(self):
         joint = (False, (-3, -1, 0), (0, -1, 0), ())
         fields = "a: [[.], .]; b: [.]"
@@ -453,6 +460,10 @@ class StepTests(unittest.TestCase):
         self.check(look, look, "", None, joint=(False, (-3,), (-1, 0), ()))
         self.check(look, look, "", [(False, (-3,), (0,), ())], joint=(False, (-3,), (0,), ()))
         self.check(look, look, "", None, joint=(False, (-3,), (-3,), ()))
+        held = (False, (-3,), (0,), ())
+        self.check("self.a[0] = self.a[0]; return view self.a", look, "", [held], joint=held)
+        self.check(look, "x = self.a[0]; self.a[0] = new .; self.a[0] = x; return view self.a", "", [held], joint=held)
+        self.check("self.a[0] = new .; return view self.a", look, "", None, joint=held)
         self.check("self.a[0] = v", "self.a[0] = v", "v: .", [(False, (-1, 1), (-1, 1), ((0, 1),))], joint=joined)
         self.check("self.a[0] = v", "x = v", "v: .", [(False, (-1, 1), (-1, 0), ())], joint=first)
         self.check("self.a[0] = v", "x = v", "v: .", None, joint=joined)
@@ -490,6 +501,16 @@ class StepTests(unittest.TestCase):
                    (False, (-3, 0, 0), (0, 0, 0), ()))
         self.check(rows, rows, "f: . -> none", [(False, (-3, 1, 0), (0, 1, 0), ())], "a: [.]; v: .; w: .",
                    (False, (-3, 0, 0), (0, 0, 0), ()), ("go", (), 0))
+        rows = "self.v = p; self.a[0] = p; f(new .); self.w = self.a[0]"
+        self.check(rows, rows, "f: . -> none, p: .", [(False, (-3, 1, 2), (0, 1, 2), ())], "a: [.]; v: .; w: .",
+                   (False, (-3, 0, 0), (0, 0, 0), ()))
+        rows = "f(self.a); self.w = self.a[0]"
+        self.check(rows, rows, "f: [.] -> none", [(False, (-3, 1), (0, 1), ())], "a: [.]; w: .")
+        self.check("f(new .); self.a[0] = self.a[0]", "f(new .)", "f: . -> none", [held], "a: [.]", held)
+        self.check("f(new .); self.a[0] = new .", "f(new .)", "f: . -> none", None, "a: [.]", held)
+        self.check("self.a[0] = new .; f(new .)", "x = new .; f(new .)", "f: . -> none", None, "a: [.]", held)
+        self.check("self.a[0] = self.a[0]; f(new .)", "f(new .); f(new .)", "f: . -> none", [held], "a: [.]", held,
+                   ("go", (), 0))
         self.check("f(self.v)", "f(new .)", "f: . -> none", [(False, (0,), (0,), ())], "v: .")
         self.check("f(self.v)", "f(new .)", "f: . -> none", None, "v: .", (False, (1,), (0,), ()))
         self.check("f(self.v)", "f(new .)", "f: . -> none", None, "v: .", (False, (1,), (0,), ()), ("go", (), 0))

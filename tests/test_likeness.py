@@ -138,6 +138,20 @@ class CompareTests(unittest.TestCase):
         self.check(rows[0], "return view copy(self.a, 1)", 2, "", "a: [[.]]", "def keep(p: [[.]]):|    self.a = p")
         self.check(*rows, 2, "", "a: [.]", "def set(v: .):|    self.a[0] = v")
 
+    def test_items_that_a_row_sets_again(self):
+        get, link = "def get():|    return self.a", "def get():|    self.a[0] = self.b|    return self.a"
+        self.check("self.a[0] = new .", "x = new .", 2, "", "a: [.]", get)
+        self.check("self.a[0] = self.b", "x = new .", 2, "", "a: [[.]]; b: [.]", link)
+        self.check("self.a[0] = self.b", "self.a[0] = self.b", None, "", "a: [[.]]; b: [.]", link)
+        self.check("f(new .); self.a[0] = new .", "f(new .)", 2, "f: . -> none", "a: [.]", get)
+
+    def test_parted_after_several_asks(self):
+        lend = "def lend(f: . -> none, v: .):|    f(new .)|    self.a[0] = v|    f(new .)|    self.a[0] = new ."
+        self.check("return self.a[0]", "return new .", 2, "", "a: [.]", lend)
+        lend = "def lend(f: [.] -> none):|    f(self.a)|    f(new [.])|    self.a = new [.]"
+        self.check("return self.a", "return copy(self.a)", 2, "", "a: [.]", lend)
+        self.check("x = f(new .); y = f(new .); return x", "x = f(new .); y = f(new .); return y", 1, "f: . -> [.]", "v: .")
+
     def test_parted_after_an_exit_or_a_raise(self):
         more = ("enter begin(f: . -> none):|    self.a = new [.]|    f(new .)|    self.a = copy(self.b)|exit end():|"
                 "    self.b = self.a")

@@ -52,13 +52,12 @@ class Side:
         box.hand = number
         box.source = self
         self.boxes[number] = box
-        leave_items(box)
 
     def begin_turn(self):
         """Leaves the items of all lists that the caller holds to the caller."""
         self.caller.start_anew()
         for box in self.boxes.values():
-            leave_items(box)
+            box.cells = [None] * len(box.cells)
 
     def value_of(self, number):
         """The value of this side with a number of the trial."""
@@ -90,11 +89,6 @@ class Side:
         """What is told of the last deed: its ask, its value, and what has come to be held, with the items."""
         held = [(kind, box.shape, shown_items(box) if kind == "list" else None) for kind, box in self.caller.grips]
         return (self.asked_at(), self.engine.told, held)
-
-
-def leave_items(box):
-    """Leaves the items of a list to the caller."""
-    box.cells = [None] * len(box.cells)
 
 
 def shown_items(box):

@@ -6,7 +6,7 @@ import unittest
 from handedcopies.errors import NoDoor, TooMany, UnlikeFaces
 from handedcopies.joints import first_joint, is_joint, joint_steps
 from handedcopies.likeness import Likeness, compare, is_likeness, like_groups
-from handedcopies.mends import Mend, doors, mended
+from handedcopies.mends import Mend, mended
 from handedcopies.running import Run
 from tests.couples import Pair, made_pair, some_mend
 from tests.samples import SHELF, STRANGE_VALUES, kept_of

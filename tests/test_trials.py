@@ -86,6 +86,16 @@ class TrialTests(unittest.TestCase):
             self.check_rows(rows, other_rows, parameters)
             self.check_rows(other_rows, rows, parameters)
 
+    def test_replies_that_were_handed_out(self):
+        fields = "a: [.]; b: [.]; c: [.]; d: [[.], [.]]"
+        for rows in ("x = f(self.a); y = f(self.b); self.c = y", "x = f(self.a); y = f(self.b); self.c = x",
+                     "y = f(self.b); y = f(new [.]); y = f(self.a); self.c = y"):
+            calm, _ = self.check_rows(rows, rows, "f: [.] -> [.]", fields)
+            self.assertGreater(calm, 10)
+        rows = "self.a = self.d[0]; self.b = self.d[1]; self.c = f(self.d)"
+        calm, _ = self.check_rows(rows, rows, "f: [[.], [.]] -> [.]", fields)
+        self.assertGreater(calm, 4)
+
     def test_items(self):
         fields = "a: [[.], [.]]; b: [.]; v: ."
         for parameters, rows, other_rows in (

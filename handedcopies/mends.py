@@ -55,7 +55,7 @@ class Mend:
     def all_of(cls, kept):
         """The mend that copies all floors at all doors of a kept."""
         pairs = doors(kept)
-        return cls(*pairs)
+        return Mend(*pairs)
 
     @property
     def floors(self):

@@ -123,8 +123,8 @@ def fewest_mend(kept, *, goals=None, when="rest", most=MOST_WORLDS):
     """The good mend with the fewest doors, the fewest floors, and the first pairs."""
     # A mend within a good one has no more doors and fewer floors, so a fewest mend is a least one.
     mends = least_mends(kept, goals=goals, when=when, most=most)
-    fewest = min([(len(mend), mend.floors, mend.pairs) for mend in mends])
-    return Mend(*fewest[2])
+    pairs = min([(len(mend), mend.floors, mend.pairs) for mend in mends])[2]
+    return Mend(*pairs)
 
 
 def least_paper(kept, *, goals=None, when="rest", most=MOST_WORLDS):

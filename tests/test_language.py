@@ -159,6 +159,15 @@ class LanguageTests(unittest.TestCase):
             if text.startswith("set("):
                 self.assertRegex(path_line(name, node.lineno), r"(sorted|len)\(set\(")
 
+    def test_stars_stand_before_names(self):
+        for name, node in nodes(ast.Call):
+            starred = [part.value for part in node.args if isinstance(part, ast.Starred)]
+            starred += [part.value for part in node.keywords if part.arg is None]
+            self.assertLess(len(starred), 2, (name, node.lineno))
+            for part in starred:
+                self.assertIsInstance(getattr(part, "value", part) if isinstance(part, ast.Attribute) else part, ast.Name,
+                                      (name, node.lineno))
+
     def test_methods_that_are_called(self):
         own = {node.name for _, node in nodes(ast.FunctionDef)}
         for name, node in nodes(ast.Call):

@@ -150,7 +150,8 @@ class CompareTests(unittest.TestCase):
         self.check("return self.a[0]", "return new .", 2, "", "a: [.]", lend)
         lend = "def lend(f: [.] -> none):|    f(self.a)|    f(new [.])|    self.a = new [.]"
         self.check("return self.a", "return copy(self.a)", 2, "", "a: [.]", lend)
-        self.check("x = f(new .); y = f(new .); return x", "x = f(new .); y = f(new .); return y", 1, "f: . -> [.]", "v: .")
+        rows = "x = f(new .); y = f(new .); return {}"
+        self.check(rows.format("x"), rows.format("y"), 1, "f: . -> [.]", "v: .")
 
     def test_parted_after_an_exit_or_a_raise(self):
         more = ("enter begin(f: . -> none):|    self.a = new [.]|    f(new .)|    self.a = copy(self.b)|exit end():|"
